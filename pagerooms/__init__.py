@@ -1,0 +1,1 @@
+"""Pagerooms: pages that come when they are asked for, and rooms enough for those that work."""
