@@ -1,6 +1,7 @@
 """The rules of LANGUAGE.md that can be read off the sources without much ado."""
 
 import ast
+import builtins
 import pathlib
 import re
 import unittest
@@ -9,6 +10,18 @@ PACKAGE = pathlib.Path(__file__).resolve().parent.parent / "pagerooms"
 BARRED = (
     "type typing typing_extensions enum Enum IntEnum StrEnum Flag IntFlag Generic Protocol ABC ABCMeta "
     "namedtuple NamedTuple TypedDict TYPE_CHECKING abstractmethod"
+).split()
+# L8, without what only __main__.py may use and without chr (L27).
+BUILTINS = (
+    "len range enumerate zip min max sum abs sorted reversed int str bool bytes list tuple dict set frozenset "
+    "isinstance ord repr any all divmod Exception ValueError TypeError KeyError IndexError LookupError "
+    "ZeroDivisionError ArithmeticError OverflowError RuntimeError NotImplementedError AttributeError "
+    "StopIteration NotImplemented"
+).split()
+# Of L25 those that may come to be of use here, and add, discard and sort.
+METHODS = (
+    "append clear copy count endswith extend find get index insert items join keys pop remove replace reverse "
+    "setdefault split startswith strip update values add discard sort __init__"
 ).split()
 
 
@@ -63,6 +76,29 @@ class TestLanguage(unittest.TestCase):
                 methods |= {row.name for row in node.body if isinstance(row, ast.FunctionDef)}
             attributes |= {node.attr for node in nodes(text, ast.Attribute) if isinstance(node.ctx, ast.Store)}
         self.assertEqual(methods & attributes, set())
+
+    def test_builtins(self):
+        for name, text in sources():
+            said = {node.id for node in nodes(text, ast.Name)} & set(dir(builtins))
+            self.assertEqual(said - set(BUILTINS), set(), name)
+
+    def test_methods(self):
+        own = {node.name for _, text in sources() for node in nodes(text, ast.FunctionDef)}
+        for name, text in sources():
+            called = [node.func.attr for node in nodes(text, ast.Call) if isinstance(node.func, ast.Attribute)]
+            self.assertEqual(set(called) - own - set(METHODS), set(), name)
+
+    def test_no_float_and_no_slash(self):
+        for name, text in sources():
+            self.assertEqual(nodes(text, ast.Div, ast.Global, ast.AsyncFunctionDef), [], name)
+            self.assertEqual([one for one in nodes(text, ast.Constant) if isinstance(one.value, float)], [], name)
+
+    def test_what_is_iterated_at_once_is_not_stored(self):
+        for name, text in sources():
+            for node in nodes(text, ast.Assign, ast.Return):
+                if isinstance(node.value, ast.Call):
+                    told = ast.unparse(node.value.func)
+                    self.assertNotRegex(told, r"^(range|zip|enumerate|reversed)$|\.(items|keys|values)$", name)
 
 
 if __name__ == "__main__":
