@@ -96,6 +96,12 @@ class Plan:
         self.happenings.append((word, job.number))
 
 
+def check_turn(turn):
+    """Refuse a turn below 1."""
+    if turn < 1:
+        raise NoTurn(turn)
+
+
 def check_jobs(jobs, frames, turn):
     """Refuse jobs, frames and turns that there are none of."""
     windows = [window for trace, window in jobs]
@@ -104,8 +110,7 @@ def check_jobs(jobs, frames, turn):
             raise NoWindow(number)
     if frames < max(windows, default=1):
         raise NoRoom(frames)
-    if turn < 1:
-        raise NoTurn(turn)
+    check_turn(turn)
 
 
 def story(jobs, frames, *, turn=1):

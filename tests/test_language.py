@@ -77,6 +77,41 @@ class TestLanguage(unittest.TestCase):
             attributes |= {node.attr for node in nodes(text, ast.Attribute) if isinstance(node.ctx, ast.Store)}
         self.assertEqual(methods & attributes, set())
 
+    def test_no_variable_has_the_name_of_an_import_a_class_or_a_builtin(self):
+        for name, text in sources():
+            barred = {one.name for node in nodes(text, ast.ImportFrom) for one in node.names}
+            barred |= {node.name for node in nodes(text, ast.ClassDef)} | set(dir(builtins))
+            bound = {node.arg for node in nodes(text, ast.arg)}
+            bound |= {node.id for node in nodes(text, ast.Name) if isinstance(node.ctx, ast.Store)}
+            self.assertEqual(bound & barred, set(), name)
+
+    def test_each_attribute_that_is_read_is_assigned_by_a_class(self):
+        assigned, read = set(), set()
+        for _, text in sources():
+            calls = [node.func for node in nodes(text, ast.Call)]
+            called = {(one.lineno, one.end_col_offset) for one in calls}
+            for node in nodes(text, ast.Attribute):
+                if isinstance(node.ctx, ast.Store):
+                    assigned.add(node.attr)
+                elif (node.lineno, node.end_col_offset) not in called:
+                    read.add(node.attr)
+        self.assertEqual(read - assigned, set())
+
+    def test_is_stands_with_none_and_truths_only(self):
+        for name, text in sources():
+            for node in nodes(text, ast.Compare):
+                for sign, right in zip(node.ops, node.comparators):
+                    if isinstance(sign, (ast.Is, ast.IsNot)):
+                        self.assertIn(ast.unparse(right), ("None", "True", "False"), name)
+
+    def test_no_two_files_import_from_each_other(self):
+        files = {name[:-3]: nodes(text, ast.ImportFrom) for name, text in sources()}
+        above = {name: {node.module.split(".")[1] for node in told} for name, told in files.items()}
+        while above:
+            ready = [name for name in above if not above[name] & set(above)]
+            self.assertNotEqual(ready, [], above)
+            above = {name: told for name, told in above.items() if name not in ready}
+
     def test_builtins(self):
         for name, text in sources():
             said = {node.id for node in nodes(text, ast.Name)} & set(dir(builtins))
